@@ -1,0 +1,1 @@
+"""Besthours: the one best timetable, with its proof."""

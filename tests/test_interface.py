@@ -1,0 +1,55 @@
+"""The interface: names and parameters as they stand in the document, each in its own file."""
+
+import importlib
+import inspect
+import unittest
+
+INTERFACE = {
+    "hours": (
+        "need_days(days)", "need_set(value, most)", "hours_in(days)", "day_of(days, hour)",
+        "day_hours(days, day)", "held_hours(days, length, hour)",
+    ),
+    "book": (
+        "need_book(book)", "spots_of(book, task)", "need_plan(book, plan)", "row_of_plan(book, plan)",
+        "plan_of_row(book, row)",
+    ),
+    "wording": (),
+    "texts": (
+        "book_text(book)", "read_book(text)", "plan_text(plan)", "read_plan(book, text)",
+        "proof_text(steps)", "read_proof(text)",
+    ),
+    "meaning": (
+        "need_rule(book, rule)", "rule_kept(book, rule, plan)", "broken(book, plan)", "keeps(book, plan)",
+        "rules_broken(book, plan)", "price_of(book, plan)", "moves_of(book, old, plan)",
+    ),
+    "choices": (
+        "need_question(question)", "sizes(question)", "plan_of(question, row)", "row_of(question, plan)",
+        "row_moves(question, row)", "row_price(question, row)",
+    ),
+}
+
+
+class Interface(unittest.TestCase):
+    def test_functions(self):
+        for file, functions in INTERFACE.items():
+            module = importlib.import_module("besthours." + file)
+            for told in functions:
+                name = told.split("(")[0]
+                function = getattr(module, name)
+                self.assertEqual(name + str(inspect.signature(function)), told)
+                self.assertEqual(function.__module__, module.__name__, name)
+
+    def test_parameters_by_name(self):
+        from samples import EMPTY
+        from besthours import book, choices, hours, meaning, texts
+        self.assertEqual(hours.need_days(days=(1,)), (1,))
+        self.assertEqual(hours.need_set(most=3, value=(1,)), (1,))
+        self.assertEqual(hours.held_hours(hour=0, length=1, days=(1,)), (0,))
+        self.assertEqual(book.plan_of_row(row=(), book=EMPTY), ())
+        self.assertEqual(texts.read_plan(text="plan ( )", book=EMPTY), ())
+        self.assertEqual(meaning.moves_of(plan=(), old=None, book=EMPTY), ())
+        self.assertEqual(choices.row_price(row=(), question=(EMPTY, None, ())), 0)
+
+
+if __name__ == "__main__":
+    unittest.main()
