@@ -5,10 +5,20 @@ LAST_ROOM = 11
 LAST_PERSON = 29
 
 
+def is_integer(value):
+    """Whether a value is an integer."""
+    # bool is beneath int in Python, but True and False are no integers here
+    return isinstance(value, int) and not isinstance(value, bool)
+
+
 def is_within(value, low, high):
     """Whether a value is an integer from `low` to `high`."""
-    # bool is beneath int in Python, but True and False are no integers here
-    return isinstance(value, int) and not isinstance(value, bool) and low <= value <= high
+    return is_integer(value) and low <= value <= high
+
+
+def is_from(value, low):
+    """Whether a value is an integer from `low` on."""
+    return is_integer(value) and value >= low
 
 
 def is_row(value, many):

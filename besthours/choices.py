@@ -2,9 +2,10 @@
 
 from besthours.book import need_book, need_plan, plan_row
 from besthours.checks import is_row, is_set, is_within
-from besthours.errors import BadParameter, BadQuestion, NoRow, TooGreat
+from besthours.errors import BadQuestion, NoRow, TooGreat
 from besthours.meaning import is_old, unkept
 from besthours.spots import all_spots, spot_price
+from besthours.sums import need_row_of
 
 MOST_DEMANDS = 40000
 
@@ -83,12 +84,7 @@ def choice_sizes(book):
 def need_row(question, row):
     """A row of a question as it is handed in."""
     need_question(question)
-    many = choice_sizes(question[0])
-    if not is_row(row, len(many)):
-        raise BadParameter(row)
-    if not all(is_within(value, 0, size - 1) for value, size in zip(row, many)):
-        raise BadParameter(row)
-    return row
+    return need_row_of(choice_sizes(question[0]), row)
 
 
 def sizes(question):

@@ -3,24 +3,28 @@
 from besthours.hours import day_at, hours_at
 
 
+def hours_of_spot(task, spot):
+    """The hours that a task (the task itself) holds at a spot."""
+    return tuple(range(spot[0], spot[0] + task[0]))
+
+
 def held_by(book, plan, number):
     """The hours that the spot of a task holds."""
-    first = plan[number][0]
-    return tuple(range(first, first + book[4][number][0]))
+    return hours_of_spot(book[4][number], plan[number])
 
 
-def is_in_at(book, plan, number, at):
-    """Whether the spot of a task is in AT."""
+def spot_in_at(task, spot, at):
+    """Whether a spot of a task (the task itself) is in AT."""
     hours, rooms, people = at
-    _, room, person = plan[number]
-    if hours is not None and not any(hour in hours for hour in held_by(book, plan, number)):
+    _, room, person = spot
+    if hours is not None and not any(hour in hours for hour in hours_of_spot(task, spot)):
         return False
     return (rooms is None or room in rooms) and (people is None or person in people)
 
 
 def those_in_at(book, what, plan):
     """The tasks of a "least", "most" or "load" that are in its AT."""
-    return [number for number in what[1] if is_in_at(book, plan, number, what[2])]
+    return [number for number in what[1] if spot_in_at(book[4][number], plan[number], what[2])]
 
 
 def keeps_least(book, what, plan):
@@ -60,10 +64,10 @@ def keeps_unlike(book, what, plan):
     return not keeps_alike(book, what, plan)
 
 
-def has_who(book, plan, number, who):
-    """Whether a task has WHO."""
+def spot_has_who(task, spot, who):
+    """Whether a task (the task itself) has WHO at a spot."""
     word, value = who
-    return plan[number][2] == value if word == "person" else value in book[4][number][3]
+    return spot[2] == value if word == "person" else value in task[3]
 
 
 def is_close(hours):
@@ -73,7 +77,7 @@ def is_close(hours):
 
 def keeps_close(book, what, plan):
     _, who, tasks = what
-    those = [number for number in tasks if has_who(book, plan, number, who)]
+    those = [number for number in tasks if spot_has_who(book[4][number], plan[number], who)]
     held = [hour for number in those for hour in held_by(book, plan, number)]
     for day in range(len(book[0])):
         hours = hours_at(book[0], day)

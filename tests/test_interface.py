@@ -26,6 +26,23 @@ INTERFACE = {
         "need_question(question)", "sizes(question)", "plan_of(question, row)", "row_of(question, plan)",
         "row_moves(question, row)", "row_price(question, row)",
     ),
+    "demands": (
+        "demands(question)", "parts(question)", "givens(question, given)", "keeps_all(question, row)",
+        "first_broken(question, row)",
+    ),
+    "sums": (
+        "need_sum(sizes, value)", "form_of(sizes, terms, bound)", "weight_of(sizes, one, row)",
+        "kept_by(sizes, one, row)", "greatest_under(sizes, one, sets)",
+    ),
+    "steps": (
+        "added(sizes, pairs)", "divided(sizes, one, by)", "capped(sizes, one)", "raised(sizes, one, terms)",
+        "clause_steps(sizes, one, sets, at, many)", "cut_steps(sizes, one, other, choice, at, far, many)",
+    ),
+    "checking": (
+        "sums_of(question, given, steps)", "checked(question, given, steps)",
+        "is_refutation(question, given, value)", "is_best_paper(question, row, value)",
+        "is_clash_paper(question, value)",
+    ),
 }
 
 
@@ -41,14 +58,25 @@ class Interface(unittest.TestCase):
 
     def test_parameters_by_name(self):
         from samples import EMPTY
-        from besthours import book, choices, hours, meaning, texts
+        from besthours import book, checking, choices, demands, hours, meaning, steps, sums, texts
         self.assertEqual(hours.need_days(days=(1,)), (1,))
         self.assertEqual(hours.need_set(most=3, value=(1,)), (1,))
         self.assertEqual(hours.held_hours(hour=0, length=1, days=(1,)), (0,))
         self.assertEqual(book.plan_of_row(row=(), book=EMPTY), ())
         self.assertEqual(texts.read_plan(text="plan ( )", book=EMPTY), ())
         self.assertEqual(meaning.moves_of(plan=(), old=None, book=EMPTY), ())
-        self.assertEqual(choices.row_price(row=(), question=(EMPTY, None, ())), 0)
+        asked = (EMPTY, None, ())
+        self.assertEqual(choices.row_price(row=(), question=asked), 0)
+        self.assertEqual(demands.givens(given=(), question=asked), ())
+        one, other = (((0, (0, 1)),), 1), (((0, (1, 0)),), 1)
+        self.assertEqual(sums.greatest_under(sets=((0,),), one=one, sizes=(2,)), 0)
+        self.assertEqual(sums.form_of(bound=1, terms=(), sizes=()), ((), 1))
+        self.assertEqual(steps.clause_steps(many=3, at=2, sets=((0,),), one=one, sizes=(2,)), (one, ()))
+        self.assertEqual(
+            steps.cut_steps(many=3, far=2, at=1, choice=0, other=other, one=one, sizes=(2,)),
+            (((), 1), (("add", ((1, 1), (2, 1))),)))
+        self.assertEqual(checking.sums_of(steps=(), given=(), question=asked), ())
+        self.assertIs(checking.is_best_paper(value=((), (), (), ()), row=(), question=asked), True)
 
 
 if __name__ == "__main__":
