@@ -43,6 +43,12 @@ INTERFACE = {
         "is_refutation(question, given, value)", "is_best_paper(question, row, value)",
         "is_clash_paper(question, value)",
     ),
+    "search": (
+        "narrowed(sizes, sums, fixed)", "search_under(sizes, sums, fixed)", "search(sizes, sums)",
+        "is_refuted(sizes, sums, fixed, value)", "search_after(sizes, sums, fixed, many)",
+    ),
+    "best": ("best(question)", "best_plan(question)", "is_better(question, one, other)"),
+    "clashes": ("together(question, lot)", "least_clash(question)", "is_least_clash(question, value)"),
 }
 
 
@@ -58,7 +64,9 @@ class Interface(unittest.TestCase):
 
     def test_parameters_by_name(self):
         from samples import EMPTY
-        from besthours import book, checking, choices, demands, hours, meaning, steps, sums, texts
+        from besthours import (
+            best, book, checking, choices, clashes, demands, hours, meaning, search, steps, sums, texts,
+        )
         self.assertEqual(hours.need_days(days=(1,)), (1,))
         self.assertEqual(hours.need_set(most=3, value=(1,)), (1,))
         self.assertEqual(hours.held_hours(hour=0, length=1, days=(1,)), (0,))
@@ -77,6 +85,13 @@ class Interface(unittest.TestCase):
             (((), 1), (("add", ((1, 1), (2, 1))),)))
         self.assertEqual(checking.sums_of(steps=(), given=(), question=asked), ())
         self.assertIs(checking.is_best_paper(value=((), (), (), ()), row=(), question=asked), True)
+        self.assertEqual(search.search(sums=(one,), sizes=(2,)), ("row", (1,)))
+        self.assertIs(search.is_refuted(value=(), fixed=(), sums=(one,), sizes=(2,)), False)
+        self.assertEqual(
+            search.search_after(many=0, fixed=(), sums=(one,), sizes=(2,)), (((0, 1),), (), (2,), ()))
+        self.assertIs(best.is_better(other=(), one=(), question=asked), False)
+        self.assertEqual(clashes.together(lot=(), question=asked), ("row", ()))
+        self.assertIs(clashes.is_least_clash(value=None, question=asked), False)
 
 
 if __name__ == "__main__":

@@ -141,10 +141,41 @@ class Language(unittest.TestCase):
                     self.assertIn(getattr(side, "value", 0), (None, True, False), f"L20 {file}:{node.lineno}")
 
     def test_methods(self):
+        own = {node.name for _, one in nodes_of(ast.ClassDef) for node in one.body if isinstance(node, ast.FunctionDef)}
         for file, node in nodes_of(ast.Call):
             if isinstance(node.func, ast.Attribute):
-                self.assertIn(node.func.attr, METHODS, f"L25 {file}:{node.lineno}")
+                self.assertIn(node.func.attr, METHODS | own, f"L25 {file}:{node.lineno}")
                 self.assertEqual(node.keywords, [], f"L25 {file}:{node.lineno}")
+
+    def test_classes(self):
+        of_values = {name for kind in (int, str, list, dict, set, bytes) for name in dir(kind)}
+        stored = set()
+        for file, one in nodes_of(ast.ClassDef):
+            methods = [node.name for node in one.body if isinstance(node, ast.FunctionDef)]
+            self.assertEqual(len(methods), len(set(methods)), f"L18 {file} {one.name}")
+            assigned = {
+                node.attr for node in ast.walk(one)
+                if isinstance(node, ast.Attribute) and isinstance(node.ctx, ast.Store)
+            }
+            self.assertFalse(set(methods) & assigned, f"L18 {file} {one.name}")
+            self.assertFalse((assigned | set(methods)) - {"__init__"} & of_values - {"__init__"}, f"L26 {file} {one.name}")
+            stored |= assigned | set(methods)
+        for file, node in nodes_of(ast.Attribute):
+            if isinstance(node.ctx, ast.Load):
+                self.assertIn(node.attr, stored | METHODS, f"L18 {file}:{node.lineno}")
+
+    def test_loops_leave_alone_what_they_go_over(self):
+        changing = {"append", "pop", "extend", "insert", "remove", "clear", "update", "setdefault", "sort", "reverse"}
+        for file, node in nodes_of(ast.For):
+            over = {ast.unparse(one) for one in ast.walk(node.iter) if isinstance(one, (ast.Name, ast.Attribute))}
+            for one in ast.walk(ast.Module(node.body, [])):
+                changed = None
+                if isinstance(one, ast.Call) and isinstance(one.func, ast.Attribute) and one.func.attr in changing:
+                    changed = one.func.value
+                elif isinstance(one, ast.Subscript) and isinstance(one.ctx, (ast.Store, ast.Del)):
+                    changed = one.value
+                if changed is not None:
+                    self.assertNotIn(ast.unparse(changed), over, f"L23 {file}:{one.lineno}")
 
     def test_sets_and_ranges(self):
         for file, node in nodes_of((ast.Set, ast.SetComp)):

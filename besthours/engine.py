@@ -1,0 +1,288 @@
+"""The search for rows that keep sums: sets of values are narrowed, decided, and laid back where a sum is broken."""
+
+from besthours.cuts import Cut
+from besthours.store import Bits, Store, heavy_of, is_open, least_bit, top_of
+
+# how many sums are broken up to the first fresh start, and by which part there are more up to the next one
+FIRST_START = 30
+START_PART = 4
+# how many sums are learnt before half of them is forgotten, and how many more the next time
+FIRST_LEARNT = 400
+MORE_LEARNT = 100
+# what is broken counts more by this part than what was broken ahead of it
+BUMP_PART = 20
+SCALE = 10 ** 6
+GREATEST_BUMP = 10 ** 40
+
+
+def slack_of(one, rows, sets):
+    """What the tops of a sum come to under sets, less its bound."""
+    total = -one[1]
+    for choice, levels in rows:
+        mask = sets[choice]
+        for weight, these in levels:
+            if these & mask:
+                total += weight
+                break
+    return total
+
+
+class Engine:
+    """A search at work: the sets (MASKS), what was taken out of them and why, and a mark for each decision.
+
+    A *level* is what comes from one decision up to the next one; what comes ahead of all of them is the level 0.
+    """
+
+    def __init__(self, store):
+        self.store = store
+        self.bits = Bits()
+        self.sets = []
+        # (CHOICE, what its set was, the sum because of which it was narrowed or -1 for a decision)
+        self.trail = []
+        # (how long the trail was, SETS, SLACKS) ahead of each decision
+        self.marks = []
+        # of each sum what its tops come to, less its bound, and whether it waits to be looked at
+        self.slacks = []
+        self.waits = []
+        self.queue = []
+        self.head = 0
+        # how often choices were in sums that were broken, what is hoped of them, and their values as they are tried
+        self.activity = [1] * len(store.sizes)
+        self.bump = 1
+        self.hopes = [0] * len(store.sizes)
+        self.orders = [tuple(range(many)) for many in store.sizes]
+        self.most_learnt = FIRST_LEARNT
+
+    def begin(self, sets, tags):
+        """Stand at sets, with all sums that follow from what has these tags alone."""
+        store = self.store
+        self.sets = list(sets)
+        self.trail = []
+        self.marks = []
+        self.slacks = [
+            0 if one is None else slack_of(one, rows, sets) for one, rows in zip(store.sums, store.rows)
+        ]
+        self.queue = []
+        self.head = 0
+        # a sum that isn't let waits for ever, so it never comes into the queue
+        self.waits = [True] * len(store.sums)
+        for number, one in enumerate(store.sums):
+            if one is not None and store.tags[number] & ~tags == 0:
+                self.waits[number] = False
+                if self.slacks[number] < store.spans[number]:
+                    self.put(number)
+
+    def put(self, number):
+        """Let a sum wait to be looked at."""
+        if not self.waits[number]:
+            self.waits[number] = True
+            self.queue.append(number)
+
+    def look(self):
+        """The next sum that waits, None if none does."""
+        if self.head == len(self.queue):
+            self.queue = []
+            self.head = 0
+            return None
+        number = self.queue[self.head]
+        self.head += 1
+        self.waits[number] = False
+        return number
+
+    def clear_queue(self):
+        """Let no sum wait."""
+        for number in self.queue[self.head:]:
+            self.waits[number] = False
+        self.queue = []
+        self.head = 0
+
+    def touch(self, groups, before, now):
+        """Let all sums of some groups wait whose top has become less, if they may forbid something."""
+        slacks, spans, waits = self.slacks, self.store.spans, self.waits
+        alone = -1 if is_open(now) else least_bit(now)
+        for levels, weights, members in groups:
+            if not levels[0][1] & now:
+                fall = top_of(levels, before) - (top_of(levels, now) if alone < 0 else weights[alone])
+                if fall > 0:
+                    for number in members:
+                        slack = slacks[number] - fall
+                        slacks[number] = slack
+                        if slack < spans[number] and not waits[number]:
+                            waits[number] = True
+                            self.queue.append(number)
+
+    def take(self, choice, now, reason):
+        """Narrow the set of a choice."""
+        before = self.sets[choice]
+        self.trail.append((choice, before, reason))
+        self.sets[choice] = now
+        self.touch(self.store.sparse[choice][least_bit(now)], before, now)
+        self.touch(self.store.dense[choice], before, now)
+
+    def narrow(self, number):
+        """Take out all values that can't be because of a sum that isn't broken; tells whether there were any."""
+        some = False
+        slack = self.slacks[number]
+        for choice, levels in self.store.rows[number]:
+            now = self.sets[choice]
+            if levels[0][0] > slack and is_open(now):
+                left = now & heavy_of(levels, top_of(levels, now) - slack)
+                if left != now:
+                    self.take(choice, left, number)
+                    some = True
+        return some
+
+    def propagate(self):
+        """Narrow as long as there are values that can't be: the number of a broken sum, or None."""
+        number = self.look()
+        while number is not None:
+            if self.slacks[number] < 0:
+                self.clear_queue()
+                return number
+            self.narrow(number)
+            number = self.look()
+        return None
+
+    def decide(self, choice, value):
+        """Decide for a value of a choice."""
+        self.marks.append((len(self.trail), list(self.sets), list(self.slacks)))
+        self.take(choice, 1 << value, -1)
+
+    def back(self, level):
+        """Take back all decisions behind a level."""
+        many, self.sets, self.slacks = self.marks[level]
+        del self.trail[many:]
+        del self.marks[level:]
+        self.clear_queue()
+
+    def explain(self, number, early):
+        """(CUT, LEVEL): what a broken sum leads to if, the last first, what was taken out is laid back.
+
+        The CUT forbids the decision of LEVEL, or something at the level ahead of it if it is asked for `early`. With
+        the LEVEL 0 all is laid back.
+        """
+        cut = Cut(self.store, self.bits, list(self.sets), number)
+        level = len(self.marks)
+        for choice, before, reason in reversed(self.trail):
+            if not cut.lay_back(choice, before):
+                if reason < 0:
+                    return (cut, level)
+                self.activity[choice] += self.bump
+                cut.absorb(reason, choice)
+                if early and level > 0 and cut.forbids(self.marks[level - 1][1]):
+                    return (cut, level)
+            if reason < 0:
+                level -= 1
+        return (cut, 0)
+
+    def rouse(self, cut):
+        """Let the choices that a sum names be decided earlier, and what was roused before count for less."""
+        for choice in cut.weights:
+            self.activity[choice] += self.bump
+        self.bump = self.bump + self.bump // BUMP_PART + 1
+        if self.bump > GREATEST_BUMP:
+            self.bump = SCALE
+            self.activity = [own * SCALE // GREATEST_BUMP + 1 for own in self.activity]
+
+    def learn(self, cut):
+        """Take up a sum among the others; its number is returned."""
+        number = self.store.add_sum(cut.one, cut.tell(), cut.tags)
+        self.store.learnt.append(number)
+        rows = self.store.rows[number]
+        for _, sets, slacks in self.marks:
+            slacks.append(slack_of(cut.one, rows, sets))
+        self.slacks.append(slack_of(cut.one, rows, self.sets))
+        self.waits.append(False)
+        self.put(number)
+        return number
+
+    def settle(self, number, early):
+        """Learn from a broken sum, all being laid back to a level where the sum that is learnt forbids something.
+
+        None; but if all is laid back (STEP, TAGS) of a sum that the sets of the beginning break.
+        """
+        cut, level = self.explain(number, early)
+        if level == 0:
+            cut.flatten()
+            return (cut.tell(), cut.tags)
+        self.rouse(cut)
+        level -= 1
+        while early and level > 0 and cut.forbids(self.marks[level - 1][1]):
+            level -= 1
+        self.back(level)
+        self.learn(cut)
+        return None
+
+    def lighten(self):
+        """Forget that half of what was learnt which was of the least use, but for what the trail needs."""
+        store = self.store
+        needed = {reason: True for _, _, reason in self.trail}
+        learnt = [number for number in store.learnt if number not in needed]
+        if len(learnt) < self.most_learnt:
+            return
+        self.most_learnt += MORE_LEARNT
+        learnt = sorted(learnt, key=lambda number: store.uses[number])
+        gone = {number: True for number in learnt[:len(learnt) // 2]}
+        store.forget({number: True for number in range(len(store.sums)) if number not in gone})
+        for number in gone:
+            self.waits[number] = True
+        store.uses = [many // 2 for many in store.uses]
+
+    def pick(self):
+        """The choice with more values to be decided next, None if each has one."""
+        best, most = None, -1
+        for choice, mask in enumerate(self.sets):
+            if is_open(mask):
+                worth = self.activity[choice] * SCALE // len(self.bits.of(mask))
+                if worth > most:
+                    best, most = choice, worth
+        return best
+
+    def wanted(self, choice):
+        """The value of a choice to be tried first."""
+        mask = self.sets[choice]
+        if mask & self.hopes[choice]:
+            return least_bit(mask & self.hopes[choice])
+        for value in self.orders[choice]:
+            if (mask >> value) & 1:
+                return value
+        return least_bit(mask)
+
+    def go_on(self, choice, lead):
+        """Decide: for the least value of the choice that leads, as long as it has more, else for a choice."""
+        if lead is not None and is_open(self.sets[lead]):
+            self.decide(lead, least_bit(self.sets[lead]))
+        else:
+            self.decide(choice, self.wanted(choice))
+
+    def run(self, sets, tags, lead):
+        """("row", ROW) with values of sets, or ("proof", STEP, TAGS) of a sum that they break.
+
+        If a choice leads, it has the least value that it can have in such a row.
+        """
+        self.begin(sets, tags)
+        many, most = 0, FIRST_START
+        while True:
+            number = self.propagate()
+            if number is not None:
+                found = self.settle(number, True)
+                if found is not None:
+                    return ("proof",) + found
+                many += 1
+            elif many >= most and self.marks != []:
+                self.back(0)
+                self.lighten()
+                many, most = 0, most + most // START_PART
+            else:
+                choice = self.pick()
+                if choice is None:
+                    return ("row", tuple([least_bit(mask) for mask in self.sets]))
+                self.go_on(choice, lead)
+
+
+def engine_of(sizes, asked):
+    """A search over what is asked: (NUMBER, SUM, TAGS) of demands."""
+    store = Store(sizes)
+    for number, one, tags in asked:
+        store.add_sum(one, ("demand", number), tags)
+    return Engine(store)
