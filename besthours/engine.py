@@ -119,17 +119,23 @@ class Engine:
         self.touch(self.store.sparse[choice][least_bit(now)], before, now)
         self.touch(self.store.dense[choice], before, now)
 
+    def narrow_at(self, number, choice, levels):
+        """Take out the values of a choice that can't be because of a sum; tells whether there were any."""
+        now = self.sets[choice]
+        left = now & heavy_of(levels, top_of(levels, now) - self.slacks[number])
+        if left == now:
+            return False
+        self.take(choice, left, number)
+        return True
+
     def narrow(self, number):
         """Take out all values that can't be because of a sum that isn't broken; tells whether there were any."""
         some = False
         slack = self.slacks[number]
         for choice, levels in self.store.rows[number]:
-            now = self.sets[choice]
-            if levels[0][0] > slack and is_open(now):
-                left = now & heavy_of(levels, top_of(levels, now) - slack)
-                if left != now:
-                    self.take(choice, left, number)
-                    some = True
+            # what is taken out has less than the top, so neither tops nor slack of this sum become less
+            if levels[0][0] > slack and is_open(self.sets[choice]) and self.narrow_at(number, choice, levels):
+                some = True
         return some
 
     def propagate(self):

@@ -92,12 +92,10 @@ def unlike_sums(book, values, what):
     return sums
 
 
-def least_off(number, weights):
-    """(LEAST, TERMS): the least weight, and the term of a task in its form, if it has one."""
+def piece_of(number, weights):
+    """(LEAST, TERMS): the least of some weights 0 and 1, and the term of a task in its form, if it has one."""
     least = min(weights)
-    if max(weights) == least:
-        return (least, ())
-    return (least, ((number, tuple([weight - least for weight in weights])),))
+    return (least, () if max(weights) == least else ((number, tuple(weights)),))
 
 
 def hours_behind(days, hour):
@@ -121,7 +119,7 @@ def close_pieces(book, values, what, number, hour):
         ahead.append(1 if holds or hour - 1 not in held else 0)
         behind.append(1 if holds or not any(one in later for one in held) else 0)
         within.append(1 if holds else 0)
-    return (least_off(number, ahead), least_off(number, behind), least_off(number, within))
+    return (piece_of(number, ahead), piece_of(number, behind), piece_of(number, within))
 
 
 def inner_hours(days):

@@ -97,34 +97,28 @@ def is_refuted(sizes, sums, fixed, value):
     return greatest_in(found[-1], sets) < found[-1][1]
 
 
-def end_refuted(engine, sets, step):
-    """Lay back all, the last step told being the one whose sum is broken."""
-    if step < len(engine.store.steps) - 1:
-        engine.store.add_step(("add", ((step, 1),)))
-    engine.begin(sets, 0)
-
-
-def narrow_once(engine, sets, number):
-    """Do with a sum what fits: (whether something was done, whether the search goes on)."""
-    if engine.slacks[number] >= 0:
-        return (engine.narrow(number), True)
+def settle_once(engine, sets, number):
+    """Learn from a broken sum; tells whether the search goes on, or else lays back all."""
+    decided = [engine.trail[at][0] for at, _, _ in engine.marks]
     engine.clear_queue()
-    found = engine.settle(number, False)
-    if found is not None:
-        end_refuted(engine, sets, found[0])
-        return (True, False)
-    # what is learnt takes out the value that was decided, within the same step
-    engine.narrow(engine.store.learnt[-1])
-    return (True, True)
+    if engine.settle(number, False) is not None:
+        engine.begin(sets, 0)
+        return False
+    # within the same step what is learnt takes out the value for which it was decided
+    learnt = engine.store.learnt[-1]
+    choice = decided[len(engine.marks)]
+    engine.narrow_at(learnt, choice, dict(engine.store.rows[learnt])[choice])
+    return True
 
 
 def step_on(engine, sets):
     """Do one step of the search; tells whether it goes on."""
     number = engine.look()
     while number is not None:
-        done, goes_on = narrow_once(engine, sets, number)
-        if done:
-            return goes_on
+        if engine.slacks[number] < 0:
+            return settle_once(engine, sets, number)
+        if engine.narrow(number):
+            return True
         number = engine.look()
     for choice, mask in enumerate(engine.sets):
         if is_open(mask):

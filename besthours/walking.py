@@ -21,11 +21,11 @@ def added_step(sums, pairs):
     return add_sums([(sums[number], times) for number, times in pairs])
 
 
-def changed_step(sizes, one, step):
+def changed_step(sizes, one, word, step):
     """The sum of a step from one sum, None if the step is wrong."""
-    if step[0] == "divide":
+    if word == "divide":
         return divide_sum(one, step[2]) if is_from(step[2], 1) else None
-    if step[0] == "cap":
+    if word == "cap":
         return cap_sum(one) if one[1] > 0 else None
     return raise_sum(one, step[2]) if is_raise(sizes, one, step[2]) else None
 
@@ -34,7 +34,11 @@ def step_word(step):
     """The word of a step with as many things as it tells, None for any other value."""
     if not isinstance(step, tuple) or len(step) == 0 or not isinstance(step[0], str):
         return None
-    return step[0] if STEP_LENGTHS.get(step[0]) == len(step) else None
+    # a string of a kind of its own need not be fit for a key
+    for word, many in STEP_LENGTHS.items():
+        if step[0] == word and len(step) == many:
+            return word
+    return None
 
 
 def step_sum(sizes, told, sums, step):
@@ -52,7 +56,7 @@ def step_sum(sizes, told, sums, step):
     if word == "add":
         return added_step(sums, step[1])
     one = item_at(sums, step[1])
-    return None if one is None else changed_step(sizes, one, step)
+    return None if one is None else changed_step(sizes, one, word, step)
 
 
 def walked(sizes, told, steps):

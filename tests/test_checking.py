@@ -21,11 +21,18 @@ PAIR_PAPER = ((), (), (("demand", 0),), ((1, 0),))
 THREE = (book((2,), groups=(0,), tasks=(task(1, None, (), (0,)),) * 3), None, ())
 THREE_STEPS = (("demand", 0), ("demand", 1), ("add", ((0, 1), (1, 1))))
 
+class Word(str):
+    """A string that is no key."""
+
+    __hash__ = None
+
+
 # values of all kinds, among them things that are nearly proofs and papers
 ANYTHING = NO_TUPLES + (
     None, (), ((),), (None,), ((), ()), ((), (), ()), ((), (), (), ()), (0, 0, 0), (0, 0, 0, 0), (None,) * 3, (None,) * 4,
     ((), (), (), (), ()), ([], [], [], []), (Odd(),), (Odd(),) * 3, (Odd(),) * 4, ("demand", 0), (("demand", 0),),
     (("demand", 0, 0),), (("demand",),), ((("demand", 0),),), "demand", ((b"demand", 0),), ((Odd(), 0),),
+    (Word("demand"), 0), ((Word("demands"), 0),), (((Word("always"), "group", 9),), (), ()),
     ((), (("demand", 0),), ()), ((("always", "group", 0),), (), ((),)), ((("always", "group", 0),), (), ()),
 )
 
@@ -169,6 +176,10 @@ class Steps(Case):
         self.assertEqual(sums_of(self.QUESTION, (), ()), ())
         self.assertIs(checked(self.QUESTION, (), ()), None)
 
+    def test_once_and_by_one(self):
+        steps = (("demand", 0), ("add", ((0, 1),)), ("divide", 1, 1), ("raise", 2, ()), ("cap", 3))
+        self.assertEqual(len(set(sums_of(self.QUESTION, (), steps))), 1)
+
     def test_great_numbers(self):
         steps = (("demand", 0), ("add", ((0, GREAT),)), ("divide", 1, GREAT), ("raise", 2, ((0, (0, GREAT)),)))
         self.assertEqual(sums_of(self.QUESTION, (), steps)[2:], (
@@ -304,6 +315,25 @@ class BestPapers(Case):
         self.assertIs(is_best_paper(self.QUESTION, row, (paper[0], paper[0]) + paper[2:]), False)
         self.assertIs(is_best_paper(self.QUESTION, row, ((),) + paper[1:]), False)
         self.assertIs(is_best_paper(self.QUESTION, row, (paper[0], ()) + paper[2:]), False)
+
+    def test_fewer_by_two_is_not_enough(self):
+        # the task 0 must leave its spot, so there is one move at least; the row (1, 0) has two
+        rules = ((("least", (0,), ((1,), None, None), 1), None),)
+        question = (book((3,), tasks=(FREE, FREE), rules=rules), ((0, None, None), (1, None, None)), ())
+        some = (("given", 0), ("demand", 0), ("add", ((0, 1), (1, 1))), ("raise", 2, ((0, (1, 1, 1)), (1, (1, 1, 1)))))
+        self.assertIs(is_refutation(question, (("moves", 0),), some), True)
+        self.assertIs(is_refutation(question, (("moves", 1),), some), False)
+        self.assertIs(is_best_paper(question, (1, 0), (some, (), (("demand", 0),), ((0, 0),))), False)
+        barred = (("given", 0), ("demand", 0), ("add", ((0, 1), (1, 1))), ("raise", 2, ((0, (1, 1, 1)),)))
+        self.assertIs(is_best_paper(question, (1, 1), (some, (), barred, ((0, 1), (1, 3)))), True)
+
+    def test_cheaper_by_two_is_not_enough(self):
+        question = (book((2,), tasks=(task(prices=((0, 3), (1, 2))),)), None, ())
+        some = (("given", 1), ("raise", 0, ((0, (1, 1)),)))
+        self.assertIs(is_refutation(question, (("moves", 0), ("price", 1)), some), True)
+        self.assertIs(is_refutation(question, (("moves", 0), ("price", 2)), some), False)
+        self.assertIs(is_best_paper(question, (0,), ((), some, (), ())), False)
+        self.assertIs(is_best_paper(question, (1,), ((), some, (("given", 1),), ((0, 0),))), True)
 
     def test_bent_in_each_part(self):
         row, paper = (1, 1, 0, 0), self.paper()

@@ -103,6 +103,17 @@ class Always(Case):
             task(1, (0,), (), (0,)), task(1, (1,), (), (0,)), task(1, (), (), (0, 1)), task(1, None, (), (1,))))
         self.assertEqual(demands(asked(a_book)), ((("task", 2), ((), 1)),))
 
+    def test_the_last_of_many(self):
+        for word, more in (
+            ("room", dict(rooms=((0, ()),) * 3 + ((0, (1,)),), tasks=(task(features=(1,)),) * 2)),
+            ("person", dict(people=((0, 1),) * 4, tasks=(task(people=(3,)),) * 2)),
+            ("group", dict(groups=(0,) * 4, tasks=(task(groups=(3,)),) * 2)),
+        ):
+            self.assertEqual(demands(asked(book((2,), **more))), (
+                (("always", word, 3), (((0, (0, 1)), (1, (0, 1))), 1)),
+                (("always", word, 3), (((0, (1, 0)), (1, (1, 0))), 1)),
+            ))
+
     def test_without_tasks(self):
         self.assertEqual(demands(asked(book((2,), ((0, ()),), ((0,),), (3,)))), ())
 

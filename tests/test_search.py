@@ -428,7 +428,7 @@ class States(Case):
             fell = self.word(sizes, state[2]) < self.word(sizes, states[-1][2])
             if not fell:
                 break
-            self.one_step(states[-1], state)
+            self.one_step(sizes, sums, states, state)
             states.append(state)
         # only the last step doesn't make the word fall
         self.assertEqual(state, last)
@@ -441,15 +441,25 @@ class States(Case):
             self.assertIs(is_refuted(sizes, sums, fixed, last[3]), True)
         return len(states)
 
-    def one_step(self, before, state):
+    def one_step(self, sizes, sums, states, state):
         """A decision for the least value of the first choice with more, or something has been taken out."""
+        before = states[-1]
         if len(state[1]) > len(before[1]):
+            # no sum is broken, and none has values that can't be
+            held = tuple(enumerate(before[0]))
+            self.assertEqual(narrowed_by_hand(sizes, sums, held), before[0])
             choice = next(at for at, those in enumerate(before[0]) if len(those) > 1)
             self.assertEqual(state[1], before[1] + ((choice, before[0][choice][0]),))
             self.assertEqual(state[0], changed(before[0], (choice,), before[0][choice][:1]))
         else:
             self.assertEqual(state[1], before[1][:len(state[1])])
             self.assertLess(state[2][-1], before[2][len(state[2]) - 1])
+        if len(state[1]) < len(before[1]):
+            # behind what was learnt all is as it was at the decision, but for the choice that was decided
+            choice, value = before[1][len(state[1])]
+            at = max(number for number, one in enumerate(states) if one[1] == state[1] and one[2] == before[2][:len(one[2])])
+            self.assertEqual(changed(state[0], (choice,), ()), changed(states[at][0], (choice,), ()))
+            self.assertTrue(set(state[0][choice]) <= set(states[at][0][choice]) - {value})
         self.assertEqual(state[3][:len(before[3])], before[3])
 
     def test_example(self):
