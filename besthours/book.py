@@ -1,6 +1,6 @@
 """Books, the spots of their tasks, and plans."""
 
-from besthours.checks import is_row, is_set, is_set_or_none, is_within
+from besthours.checks import is_priced, is_row, is_set, is_set_or_none, is_within
 from besthours.errors import BadBook, BadParameter, BadPlan, TooGreat
 from besthours.hours import MOST_LENGTH, is_days
 from besthours.rules import MOST_PRICE, rule_fault
@@ -19,18 +19,6 @@ def is_room(value):
     return is_row(value, 2) and is_within(value[0], 0, MOST_SIZE) and is_set(value[1], LAST_FEATURE)
 
 
-def is_prices(value, last):
-    """Whether a value is PRICES of hours up to the last one."""
-    if not isinstance(value, tuple):
-        return False
-    least = 0
-    for pair in value:
-        if not is_row(pair, 2) or not is_within(pair[0], least, last) or not is_within(pair[1], 1, MOST_PRICE):
-            return False
-        least = pair[0] + 1
-    return True
-
-
 def is_task(book, value):
     """Whether a value is a task; the book's days to its groups are right already."""
     if not is_row(value, 6):
@@ -41,7 +29,7 @@ def is_task(book, value):
         return False
     if not is_set(able, len(book[2]) - 1) or not is_set(attending, len(book[3]) - 1):
         return False
-    return is_set_or_none(features, LAST_FEATURE) and is_prices(prices, last)
+    return is_set_or_none(features, LAST_FEATURE) and is_priced(prices, last, 1, MOST_PRICE)
 
 
 def is_thing(book, number, value):

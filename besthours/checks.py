@@ -44,6 +44,18 @@ def is_set(value, most):
     return True
 
 
+def is_priced(value, last, low, high):
+    """Whether a value is an ascending tuple of (HOUR, PRICE) of unlike hours up to the last one, prices so great."""
+    if not isinstance(value, tuple):
+        return False
+    least = 0
+    for pair in value:
+        if not is_row(pair, 2) or not is_within(pair[0], least, last) or not is_within(pair[1], low, high):
+            return False
+        least = pair[0] + 1
+    return True
+
+
 def is_set_or_none(value, most):
     """Whether a value is None or a SET of integers from 0 to `most`."""
     return value is None or is_set(value, most)

@@ -210,3 +210,61 @@ class Maker:
     def plan(self, a_book):
         spots = [spots_by_hand(a_book, number) for number in range(len(a_book[4]))]
         return tuple(self.chance.choice(those) for those in spots)
+
+
+class Crowd(Maker):
+    """Books of two or three tasks that are in each other's way, and questions of these, the same ones in each run."""
+
+    def book(self, rules=3):
+        chance = self.chance
+        days = chance.choice(((2,), (3,), (4,), (2, 1), (1, 2), (2, 2), (3, 2)))
+        hours = sum(days)
+        rooms = tuple((chance.choice((10, 20)), self.set_of(2)) for _ in range(chance.randint(1, 2)))
+        people = tuple(self.set_of(hours, 0.85) for _ in range(chance.randint(1, 2)))
+        groups = tuple(chance.choice((0, 5, 10)) for _ in range(chance.randint(1, 2)))
+        tasks = tuple(self.task(days, len(people), len(groups)) for _ in range(chance.randint(2, 3)))
+        made = (days, rooms, people, groups, tasks, ())
+        told = tuple(
+            (self.what(made), chance.choice((None, 1, 2, 5))) for _ in range(chance.randint(0, rules))
+        )
+        return made[:5] + (told,)
+
+    def task(self, days, people, groups):
+        hours = sum(days)
+        return (
+            self.chance.choice((1, 1, 1, 2)),
+            None if self.chance.random() < 0.8 else self.set_of(hours, 0.8),
+            self.set_of(people, 0.5),
+            self.set_of(groups, 0.7),
+            self.chance.choice((None, (), ())),
+            tuple((hour, self.chance.randint(1, 4)) for hour in self.set_of(hours, 0.4)),
+        )
+
+    def small_book(self, most_plans=200, rules=3):
+        """A book with so many plans at most, those that keep nothing among them."""
+        while True:
+            made = self.book(rules)
+            many = 1
+            for number in range(len(made[4])):
+                many *= len(spots_by_hand(made, number))
+            if many <= most_plans and (many > 0 or self.chance.random() < 0.2):
+                return made
+
+    def old(self, a_book):
+        """For each task one of its spots, a spot that is none of its, or None."""
+        chosen = []
+        for number in range(len(a_book[4])):
+            spots = spots_by_hand(a_book, number)
+            chosen.append(self.chance.choice(3 * spots[:2] + spots + (None, (83, None, 29))))
+        return tuple(chosen)
+
+    def fixed(self, a_book):
+        """FIXED, most of the spots let."""
+        return tuple(
+            (number, self.set_of(len(spots_by_hand(a_book, number)), 0.75))
+            for number in range(len(a_book[4])) if self.chance.random() < 0.5)
+
+    def question(self, most_plans=200, rules=3):
+        a_book = self.small_book(most_plans, rules)
+        old = self.old(a_book) if self.chance.random() < 0.6 else None
+        return (a_book, old, self.fixed(a_book) if self.chance.random() < 0.5 else ())

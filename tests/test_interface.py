@@ -49,6 +49,20 @@ INTERFACE = {
     ),
     "best": ("best(question)", "best_plan(question)", "is_better(question, one, other)"),
     "clashes": ("together(question, lot)", "least_clash(question)", "is_least_clash(question, value)"),
+    "changes": ("changed(book, old)", "moved_tasks(book, old, plan)", "carried(old, pairs)"),
+    "matchings": (
+        "matching(tasks, rooms)", "is_placing(tasks, rooms, value)", "is_lot(tasks, rooms, value)",
+        "least_placing(tasks, rooms)", "hour_sums(tasks, rooms)", "lot_steps(tasks, rooms, lot)",
+    ),
+    "prices": (
+        "cheapest(prices, rooms)", "is_bears(prices, rooms, value)", "borne(prices, rooms, bears)",
+        "least_cheapest(prices, rooms)", "bears_steps(prices, rooms, bears)",
+    ),
+    "periods": (
+        "held(beats, week)", "meets(one, other)", "first_meeting(one, other)", "follows(one, other)",
+        "round_length(beats)", "unrolled(beats)", "most_at_once(beats)", "fits(beats, rooms)",
+        "all_fit(periods, rooms)", "is_chain(periods)", "chain_phases(periods, rooms)",
+    ),
 }
 
 
@@ -65,7 +79,8 @@ class Interface(unittest.TestCase):
     def test_parameters_by_name(self):
         from samples import EMPTY
         from besthours import (
-            best, book, checking, choices, clashes, demands, hours, meaning, search, steps, sums, texts,
+            best, book, changes, checking, choices, clashes, demands, hours, matchings, meaning, periods, prices, search,
+            steps, sums, texts,
         )
         self.assertEqual(hours.need_days(days=(1,)), (1,))
         self.assertEqual(hours.need_set(most=3, value=(1,)), (1,))
@@ -92,6 +107,38 @@ class Interface(unittest.TestCase):
         self.assertIs(best.is_better(other=(), one=(), question=asked), False)
         self.assertEqual(clashes.together(lot=(), question=asked), ("row", ()))
         self.assertIs(clashes.is_least_clash(value=None, question=asked), False)
+
+    def test_more_parameters_by_name(self):
+        from samples import EMPTY
+        from besthours import changes, matchings, periods, prices
+        self.assertEqual(changes.changed(old=(), book=EMPTY)[:2], ("plan", ()))
+        self.assertEqual(changes.moved_tasks(plan=(), old=(), book=EMPTY), ())
+        self.assertEqual(changes.carried(pairs=(None,), old=()), (None,))
+        self.assertEqual(matchings.matching(rooms=(1,), tasks=((0,),)), ("plan", (0,)))
+        self.assertIs(matchings.is_placing(value=(0,), rooms=(1,), tasks=((0,),)), True)
+        self.assertIs(matchings.is_lot(value=(0,), rooms=(0,), tasks=((0,),)), True)
+        self.assertEqual(matchings.least_placing(rooms=(1,), tasks=((0,),)), (0,))
+        self.assertEqual(matchings.hour_sums(rooms=(0,), tasks=((0,),)), (((), 1),))
+        self.assertEqual(
+            matchings.lot_steps(lot=(0,), rooms=(0,), tasks=((0,),)), (("demand", 0), ("add", ((0, 1),))))
+        priced = (((0, 3),),)
+        self.assertEqual(prices.cheapest(rooms=(1,), prices=priced), ("plan", (0,), 3, ((3,), (0,))))
+        self.assertIs(prices.is_bears(value=((3,), (0,)), rooms=(1,), prices=priced), True)
+        self.assertEqual(prices.borne(bears=((2,), (0,)), rooms=(1,), prices=priced), 2)
+        self.assertEqual(prices.least_cheapest(rooms=(1,), prices=priced), (0,))
+        self.assertEqual(
+            prices.bears_steps(bears=((3,), (0,)), rooms=(1,), prices=priced), (("add", ()), ("raise", 0, ((0, (0,)),))))
+        self.assertEqual(periods.held(week=3, beats=((2, 1),)), (0,))
+        self.assertIs(periods.meets(other=(2, 1), one=(2, 0)), False)
+        self.assertEqual(periods.first_meeting(other=(2, 1), one=(1, 0)), 1)
+        self.assertIs(periods.follows(other=(2, 1), one=(2, 0)), True)
+        self.assertEqual(periods.round_length(beats=((2, 1),)), 2)
+        self.assertEqual(periods.unrolled(beats=((2, 1),)), ((), (0,)))
+        self.assertEqual(periods.most_at_once(beats=((2, 1),)), 1)
+        self.assertIs(periods.fits(rooms=0, beats=((2, 1),)), False)
+        self.assertEqual(periods.all_fit(rooms=1, periods=(2, 2)), (0, 1))
+        self.assertIs(periods.is_chain(periods=(2, 3)), False)
+        self.assertEqual(periods.chain_phases(rooms=1, periods=(2, 2)), ("phases", (0, 1)))
 
 
 if __name__ == "__main__":
