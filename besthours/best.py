@@ -5,8 +5,9 @@ from besthours.choices import choice_sizes, need_question, priced_rules
 from besthours.demands import all_demands, choice_prices, given_sums
 from besthours.engine import engine_of
 from besthours.errors import NoRow, Unlike
+from besthours.holding import is_let
 from besthours.lowering import lowered
-from besthours.meaning import broken, moves_of, price_of, unkept
+from besthours.meaning import moves_of, price_of, unkept
 from besthours.spots import all_spots
 from besthours.store import full_masks
 
@@ -147,13 +148,6 @@ def best_plan(question):
     if found[0] == "none":
         raise NoRow()
     return found[1]
-
-
-def is_let(question, plan):
-    """Whether a plan keeps the book and FIXED of a question."""
-    book, _, fixed = question
-    row = plan_row(book, plan)
-    return broken(book, plan) is None and all(row[task] in numbers for task, numbers in fixed)
 
 
 def rank(question, plan):

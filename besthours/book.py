@@ -50,26 +50,47 @@ def thing_fault(book, number, value):
     return None if is_thing(book, number, value) else ()
 
 
-def need_things(book, number):
-    """Refuse a book in whose part with this number something is wrong; those ahead are right already."""
+def things_fault(book, number):
+    """The place of what is wrong in the part of a book with a number, None if nothing is; those ahead are right."""
     things = book[number]
     if not isinstance(things, tuple) or len(things) > MOST_THINGS[number]:
-        raise BadBook((number,))
+        return (number,)
     for index, value in enumerate(things):
         place = thing_fault(book, number, value)
         if place is not None:
-            raise BadBook((number, index) + place)
+            return (number, index) + place
+    return None
+
+
+def book_fault(book):
+    """The place of the first thing that is wrong in a book, None if nothing is."""
+    if not is_row(book, PARTS):
+        return ()
+    if not is_days(book[0]):
+        return (0,)
+    for number in range(1, PARTS):
+        place = things_fault(book, number)
+        if place is not None:
+            return place
+    return None
+
+
+def has_few_spots(book):
+    """Whether no task of a book, in which nothing else is wrong, has too many spots."""
+    return all(count_spots(book, task) <= MOST_SPOTS for task in book[4])
+
+
+def is_book(value):
+    """Whether a value is a book."""
+    return book_fault(value) is None and has_few_spots(value)
 
 
 def need_book(book):
     """A book as it is handed in."""
-    if not is_row(book, PARTS):
-        raise BadBook(())
-    if not is_days(book[0]):
-        raise BadBook((0,))
-    for number in range(1, PARTS):
-        need_things(book, number)
-    if any(count_spots(book, task) > MOST_SPOTS for task in book[4]):
+    place = book_fault(book)
+    if place is not None:
+        raise BadBook(place)
+    if not has_few_spots(book):
         raise TooGreat(MOST_SPOTS)
     return book
 
@@ -82,14 +103,22 @@ def spots_of(book, task):
     return task_spots(book, task)
 
 
+def plan_fault(book, plan):
+    """The place of the first thing that is wrong in a plan, None if nothing is; the book is right already."""
+    if not is_row(plan, len(book[4])):
+        return ()
+    for index, spots in enumerate(all_spots(book)):
+        if not is_spot(spots, plan[index]):
+            return (index,)
+    return None
+
+
 def need_plan(book, plan):
     """A plan as it is handed in."""
     need_book(book)
-    if not is_row(plan, len(book[4])):
-        raise BadPlan(())
-    for index, spots in enumerate(all_spots(book)):
-        if not is_spot(spots, plan[index]):
-            raise BadPlan((index,))
+    place = plan_fault(book, plan)
+    if place is not None:
+        raise BadPlan(place)
     return plan
 
 

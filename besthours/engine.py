@@ -205,12 +205,12 @@ class Engine:
     def settle(self, number, early):
         """Learn from a broken sum, all being laid back to a level where the sum that is learnt forbids something.
 
-        None; but if all is laid back (STEP, TAGS) of a sum that the sets of the beginning break.
+        None; but if all is laid back (STEP, TAGS, SUM) of a sum that the sets of the beginning break.
         """
         cut, level = self.explain(number, early)
         if level == 0:
             cut.flatten()
-            return (cut.tell(), cut.tags)
+            return (cut.tell(), cut.tags, cut.one)
         self.rouse(cut)
         level -= 1
         while early and level > 0 and cut.forbids(self.marks[level - 1][1]):
@@ -262,7 +262,7 @@ class Engine:
             self.decide(choice, self.wanted(choice))
 
     def run(self, sets, tags, lead):
-        """("row", ROW) with values of sets, or ("proof", STEP, TAGS) of a sum that they break.
+        """("row", ROW) with values of sets, or ("proof", STEP, TAGS, SUM) of a sum that they break.
 
         If a choice leads, it has the least value that it can have in such a row.
         """

@@ -35,9 +35,13 @@ def keeps_most(book, what, plan):
     return len(those_in_at(book, what, plan)) <= what[3]
 
 
+def load_of(book, what, plan):
+    """The LENGTHs of the tasks of a "load" that are in its AT, together."""
+    return sum(book[4][number][0] for number in those_in_at(book, what, plan))
+
+
 def keeps_load(book, what, plan):
-    load = sum(book[4][number][0] for number in those_in_at(book, what, plan))
-    return what[3] <= load <= what[4]
+    return what[3] <= load_of(book, what, plan) <= what[4]
 
 
 def keeps_before(book, what, plan):

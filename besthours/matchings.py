@@ -3,7 +3,7 @@
 from besthours.checks import is_integer, is_row, is_set, is_within
 from besthours.errors import BadParameter, NoRow
 from besthours.placing import ordered, place_all
-from besthours.steps import add_sums
+from besthours.steps import add_sums, flat_terms
 from besthours.sums import form
 
 MOST_TASKS = 60
@@ -124,8 +124,7 @@ def lot_steps(tasks, rooms, lot):
     numbers = [every.index(hour) for hour in hours_of([tasks[task] for task in lot])]
     steps = [("demand", number) for number in numbers]
     steps.append(("add", tuple([(step, 1) for step in range(len(numbers))])))
-    terms, _ = add_sums([(sums[number], 1) for number in numbers])
-    if terms != ():
-        flat = tuple([(task, (max(weights),) * len(weights)) for task, weights in terms])
+    flat = flat_terms(add_sums([(sums[number], 1) for number in numbers]))
+    if flat != ():
         steps.append(("raise", len(numbers), flat))
     return tuple(steps)

@@ -101,6 +101,11 @@ def raised(sizes, one, terms):
     return raise_sum(one, terms)
 
 
+def flat_terms(one):
+    """The TERMS that make each weight of a sum the greatest one of its choice."""
+    return tuple([(choice, (max(own),) * len(own)) for choice, own in one[0]])
+
+
 def raise_to_tops(one, sets):
     """The TERMS that make all weights of a sum at least the greatest ones within the sets."""
     tops = [(choice, own, top_in(own, sets[choice])) for choice, own in one[0]]

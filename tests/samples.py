@@ -41,7 +41,7 @@ class Case(unittest.TestCase):
             seen = getattr(raised, name)
             if any(value is item for item in (*args, *named.values())):
                 self.assertIs(seen, value)
-            else:
+            elif seen is not value:
                 self.assertEqual(seen, value, told(args))
                 self.assertIs(type(seen), type(value))
 

@@ -11,6 +11,7 @@ from besthours.choices import row_of, sizes
 from besthours.errors import BadBook, BadParameter, BadPlan, BadQuestion, TooGreat
 from besthours.meaning import keeps, moves_of, price_of
 from samples import Case, Crowd, EMPTY, MEETABLE, NO_TUPLES, ODD, Odd, book, changed as bent, task
+from test_best import all_plans
 
 FREE = task()
 GROUPED = task(1, None, (), (0,))
@@ -20,10 +21,6 @@ GREAT = ((12,) * 7, (), (), (0,), (FREE,) * 40, ((("close", ("group", 0), tuple(
 
 def at(*hours):
     return tuple(None if hour is None else (hour, None, None) for hour in hours)
-
-
-def all_plans(a_book):
-    return itertools.product(*(spots_of(a_book, number) for number in range(len(a_book[4]))))
 
 
 def moves_by_hand(a_book, old, plan):

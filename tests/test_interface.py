@@ -63,6 +63,21 @@ INTERFACE = {
         "round_length(beats)", "unrolled(beats)", "most_at_once(beats)", "fits(beats, rooms)",
         "all_fit(periods, rooms)", "is_chain(periods)", "chain_phases(periods, rooms)",
     ),
+    "asks": (
+        "held_to(question, task, spots)", "may(question, task, spot)", "why_not(question, task, spot)",
+        "swap(question, plan, task, spot)",
+    ),
+    "sure": (
+        "possible(question, task)", "is_possible(question, task, value)", "out_of(question, tasks, at)",
+        "sure(question, tasks, at)", "is_sure(question, tasks, at, value)",
+    ),
+    "loads": (
+        "ruled(question, what)", "least_load(question, tasks, at)", "greatest_load(question, tasks, at)",
+        "is_least_load(question, tasks, at, value)", "is_greatest_load(question, tasks, at, value)",
+    ),
+    "sessions": (
+        "begun(book)", "need_state(state)", "asked(state)", "session_step(state, deed)", "played(book, deeds)",
+    ),
 }
 
 
@@ -139,6 +154,33 @@ class Interface(unittest.TestCase):
         self.assertEqual(periods.all_fit(rooms=1, periods=(2, 2)), (0, 1))
         self.assertIs(periods.is_chain(periods=(2, 3)), False)
         self.assertEqual(periods.chain_phases(rooms=1, periods=(2, 2)), ("phases", (0, 1)))
+
+    def test_last_parameters_by_name(self):
+        from samples import book, task
+        from besthours import asks, loads, sessions, sure
+        made = book((1,), tasks=(task(),))
+        question, plan, any_at = (made, None, ()), ((0, None, None),), (None, None, None)
+        self.assertEqual(asks.held_to(spots=(0,), task=0, question=question), (made, None, ((0, (0,)),)))
+        self.assertEqual(asks.may(spot=0, task=0, question=question)[:2], ("plan", plan))
+        self.assertEqual(asks.why_not(spot=0, task=0, question=question), ("best",))
+        self.assertEqual(asks.swap(spot=0, task=0, plan=plan, question=question)[:3], ("plan", plan, 0))
+        self.assertEqual(sure.possible(task=0, question=question), ((0,), (plan,), ()))
+        self.assertIs(sure.is_possible(value=((0,), (plan,), ()), task=0, question=question), True)
+        self.assertEqual(sure.out_of(at=any_at, tasks=(0,), question=question), (made, None, ((0, ()),)))
+        self.assertEqual(sure.sure(at=any_at, tasks=(0,), question=question)[0], "sure")
+        self.assertIs(sure.is_sure(value=("not", plan), at=any_at, tasks=(), question=question), True)
+        self.assertEqual(loads.ruled(what=("least", (), any_at, 0), question=question)[0][4], made[4])
+        found = loads.least_load(at=any_at, tasks=(0,), question=question)
+        self.assertEqual(found[:2], (1, plan))
+        self.assertIs(loads.is_least_load(value=found, at=any_at, tasks=(0,), question=question), True)
+        found = loads.greatest_load(at=any_at, tasks=(0,), question=question)
+        self.assertEqual(found, (1, plan, ()))
+        self.assertIs(loads.is_greatest_load(value=found, at=any_at, tasks=(0,), question=question), True)
+        state = sessions.begun(book=made)
+        self.assertEqual(sessions.need_state(state=state), state)
+        self.assertEqual(sessions.asked(state=state), (made, (None,), ()))
+        self.assertEqual(sessions.session_step(deed=("plan",), state=state)[1], ("plan", (), 0))
+        self.assertEqual(sessions.played(deeds=(), book=made), (state, ()))
 
 
 if __name__ == "__main__":
