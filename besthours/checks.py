@@ -32,6 +32,16 @@ def is_word(value, words):
     return isinstance(value, str) and value in words
 
 
+def word_of(value, lengths):
+    """The word of a tuple that begins with one and is as long as `lengths`, (WORD, LENGTH) .., tell; else None."""
+    if not isinstance(value, tuple) or len(value) == 0 or not isinstance(value[0], str):
+        return None
+    for word, many in lengths:
+        if value[0] == word and len(value) == many:
+            return word
+    return None
+
+
 def is_set(value, most):
     """Whether a value is a SET of integers from 0 to `most`."""
     if not isinstance(value, tuple):

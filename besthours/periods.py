@@ -219,7 +219,7 @@ def chain_phases(periods, rooms):
         return ("share", part, whole)
     weeks = Weeks(weeks_of(periods), rooms)
     phases = {}
-    for period, number in sorted([(period, number) for number, period in enumerate(periods)]):
-        phases[number] = weeks.least_phase(period, 0)
-        weeks.hold(period, phases[number], 1)
+    for number in sorted(range(len(periods)), key=lambda one: periods[one]):
+        phases[number] = weeks.least_phase(periods[number], 0)
+        weeks.hold(periods[number], phases[number], 1)
     return ("phases", tuple([phases[number] for number in range(len(periods))]))

@@ -2,7 +2,7 @@
 
 from besthours.best import best
 from besthours.book import is_book, need_book
-from besthours.checks import is_integer, is_row, is_within
+from besthours.checks import is_integer, is_row, is_within, word_of
 from besthours.clashes import least_clash
 from besthours.errors import BadDeed, BadParameter, NoRow, TooGreat
 from besthours.meaning import moves_of
@@ -11,7 +11,9 @@ from besthours.spots import all_spots, is_spot, task_spots
 MOST_PAST = 200
 
 # how many things the deeds have, their words among them
-DEED_LENGTHS = {"add": 2, "rule": 2, "unrule": 2, "pin": 3, "unpin": 2, "plan": 1, "mend": 1, "undo": 1}
+DEED_LENGTHS = (
+    ("add", 2), ("rule", 2), ("unrule", 2), ("pin", 3), ("unpin", 2), ("plan", 1), ("mend", 1), ("undo", 1),
+)
 
 
 def stands(spots, value):
@@ -81,16 +83,6 @@ def asked(state):
     """The question that mend asks."""
     book, standing, pins, _ = need_state(state)
     return pinned_question(book, standing, pins)
-
-
-def deed_word(deed):
-    """The word of a deed with as many things as it tells, None for any other value."""
-    if not isinstance(deed, tuple) or len(deed) == 0 or not isinstance(deed[0], str):
-        return None
-    for word, many in DEED_LENGTHS.items():
-        if deed[0] == word and len(deed) == many:
-            return word
-    return None
 
 
 def with_task(now, deed):
@@ -174,7 +166,7 @@ def session_step(state, deed):
     """(STATE, ANSWER): the state behind a deed, and its answer."""
     need_state(state)
     now, past = state[:3], state[3]
-    word = deed_word(deed)
+    word = word_of(deed, DEED_LENGTHS)
     if word is None:
         raise BadDeed(())
     if word == "undo":

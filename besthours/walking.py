@@ -1,10 +1,10 @@
 """One walk through the steps of a proof; nothing here knows how answers are found."""
 
-from besthours.checks import is_from, is_row, is_within
+from besthours.checks import is_from, is_row, is_within, word_of
 from besthours.steps import add_sums, cap_sum, divide_sum, is_raise, raise_sum
 
 # how many things the steps have, their words among them
-STEP_LENGTHS = {"demand": 2, "given": 2, "add": 2, "divide": 3, "cap": 2, "raise": 3}
+STEP_LENGTHS = (("demand", 2), ("given", 2), ("add", 2), ("divide", 3), ("cap", 2), ("raise", 3))
 
 
 def item_at(things, number):
@@ -30,23 +30,12 @@ def changed_step(sizes, one, word, step):
     return raise_sum(one, step[2]) if is_raise(sizes, one, step[2]) else None
 
 
-def step_word(step):
-    """The word of a step with as many things as it tells, None for any other value."""
-    if not isinstance(step, tuple) or len(step) == 0 or not isinstance(step[0], str):
-        return None
-    # a string of a kind of its own need not be fit for a key
-    for word, many in STEP_LENGTHS.items():
-        if step[0] == word and len(step) == many:
-            return word
-    return None
-
-
 def step_sum(sizes, told, sums, step):
     """The sum of a step behind steps with these sums, None if it is wrong.
 
     `told` are the sums of the demands and the given sums.
     """
-    word = step_word(step)
+    word = word_of(step, STEP_LENGTHS)
     if word is None:
         return None
     if word == "demand":
