@@ -1,11 +1,20 @@
 """The search for rows that keep sums: sets of values are narrowed, decided, and laid back where a sum is broken."""
 
 from besthours.cuts import Cut
+from besthours.mixing import mixed
+from besthours.steps import add_sums
 from besthours.store import Bits, Store, heavy_of, is_open, least_bit, top_of
 
 # how many sums are broken up to the first fresh start, and by which part there are more up to the next one
 FIRST_START = 30
 START_PART = 4
+# how many sums are broken up to the first time that multiples are looked for, and how many times as many up to the
+# next time; how many turns are taken for each of them, how many weights are looked at, and how many terms there may be
+FIRST_MIX = 30
+MIX_TIMES = 2
+MIX_TURNS = 2
+MIX_WORK = 200000
+MOST_TERMS = 100000
 # how many sums are learnt before half of them is forgotten, and how many more the next time
 FIRST_LEARNT = 400
 MORE_LEARNT = 100
@@ -52,6 +61,8 @@ class Engine:
         self.hopes = [0] * len(store.sizes)
         self.orders = [tuple(range(many)) for many in store.sizes]
         self.most_learnt = FIRST_LEARNT
+        # how far the values left have been mixed
+        self.mixture = None
 
     def begin(self, sets, tags):
         """Stand at sets, with all sums that follow from what has these tags alone."""
@@ -59,6 +70,7 @@ class Engine:
         self.sets = list(sets)
         self.trail = []
         self.marks = []
+        self.mixture = None
         self.slacks = [
             0 if one is None else slack_of(one, rows, sets) for one, rows in zip(store.sums, store.rows)
         ]
@@ -190,14 +202,14 @@ class Engine:
             self.bump = SCALE
             self.activity = [own * SCALE // GREATEST_BUMP + 1 for own in self.activity]
 
-    def learn(self, cut):
+    def learn(self, one, step, tags):
         """Take up a sum among the others; its number is returned."""
-        number = self.store.add_sum(cut.one, cut.tell(), cut.tags)
+        number = self.store.add_sum(one, step, tags)
         self.store.learnt.append(number)
         rows = self.store.rows[number]
         for _, sets, slacks in self.marks:
-            slacks.append(slack_of(cut.one, rows, sets))
-        self.slacks.append(slack_of(cut.one, rows, self.sets))
+            slacks.append(slack_of(one, rows, sets))
+        self.slacks.append(slack_of(one, rows, self.sets))
         self.waits.append(False)
         self.put(number)
         return number
@@ -216,7 +228,7 @@ class Engine:
         while early and level > 0 and cut.forbids(self.marks[level - 1][1]):
             level -= 1
         self.back(level)
-        self.learn(cut)
+        self.learn(cut.one, cut.tell(), cut.tags)
         return None
 
     def lighten(self):
@@ -233,6 +245,39 @@ class Engine:
         for number in gone:
             self.waits[number] = True
         store.uses = [many // 2 for many in store.uses]
+
+    def asked(self, tags):
+        """The numbers of the sums, but for learnt ones, that follow from what has these tags alone."""
+        store = self.store
+        learnt = {number: True for number in store.learnt}
+        return [
+            number for number, one in enumerate(store.sums)
+            if one is not None and number not in learnt and store.tags[number] & ~tags == 0
+        ]
+
+    def mix(self, tags, many):
+        """Learn a sum that the sets break, if sums with these tags come to one; else hope for what mixes them best.
+
+        It is done ahead of all decisions, when so many sums have been broken.
+        """
+        store = self.store
+        numbers = self.asked(tags)
+        if sum([len(store.rows[number]) for number in numbers]) > MOST_TERMS:
+            return
+        left = [self.bits.of(mask) for mask in self.sets]
+        sums = [(number, store.sums[number]) for number in numbers]
+        times, self.mixture = mixed(left, sums, MIX_TURNS * many, MIX_WORK * many, self.mixture)
+        if times == {}:
+            for choice, value in self.mixture.greatest().items():
+                self.hopes[choice] = 1 << value
+            return
+        pairs = [(number, many) for number, many in times.items()]
+        one = add_sums([(store.sums[number], many) for number, many in pairs])
+        step = store.add_step(("add", tuple([(store.step_of(number), many) for number, many in pairs])))
+        own = 0
+        for number, _ in pairs:
+            own = own | store.tags[number]
+        self.learn(one, step, own)
 
     def pick(self):
         """The choice with more values to be decided next, None if each has one."""
@@ -267,7 +312,8 @@ class Engine:
         If a choice leads, it has the least value that it can have in such a row.
         """
         self.begin(sets, tags)
-        many, most = 0, FIRST_START
+        many, most, mixes = 0, FIRST_START, FIRST_MIX
+        begun = 0
         while True:
             number = self.propagate()
             if number is not None:
@@ -275,10 +321,13 @@ class Engine:
                 if found is not None:
                     return ("proof",) + found
                 many += 1
-            elif many >= most and self.marks != []:
+            elif many >= begun + most and self.marks != []:
                 self.back(0)
                 self.lighten()
-                many, most = 0, most + most // START_PART
+                begun, most = many, most + most // START_PART
+                if many >= mixes:
+                    self.mix(tags, many)
+                    mixes = MIX_TIMES * many
             else:
                 choice = self.pick()
                 if choice is None:
