@@ -1,5 +1,6 @@
 """The search for rows that keep sums: sets of values are narrowed, decided, and laid back where a sum is broken."""
 
+from besthours.cliques import clique_sums
 from besthours.cuts import Cut
 from besthours.mixing import mixed
 from besthours.steps import add_sums
@@ -61,13 +62,16 @@ class Engine:
         self.hopes = [0] * len(store.sizes)
         self.orders = [tuple(range(many)) for many in store.sizes]
         self.most_learnt = FIRST_LEARNT
-        # how far the values left have been mixed
+        # the tags of what is let, whether cliques have been looked for, and how far the values left have been mixed
+        self.tags = 0
+        self.joined = False
         self.mixture = None
 
     def begin(self, sets, tags):
         """Stand at sets, with all sums that follow from what has these tags alone."""
         store = self.store
         self.sets = list(sets)
+        self.tags = tags
         self.trail = []
         self.marks = []
         self.mixture = None
@@ -202,17 +206,21 @@ class Engine:
             self.bump = SCALE
             self.activity = [own * SCALE // GREATEST_BUMP + 1 for own in self.activity]
 
-    def learn(self, one, step, tags):
+    def take_up(self, one, step, tags):
         """Take up a sum among the others; its number is returned."""
         number = self.store.add_sum(one, step, tags)
-        self.store.learnt.append(number)
         rows = self.store.rows[number]
         for _, sets, slacks in self.marks:
             slacks.append(slack_of(one, rows, sets))
         self.slacks.append(slack_of(one, rows, self.sets))
-        self.waits.append(False)
+        # what isn't let waits for ever
+        self.waits.append(tags & ~self.tags != 0)
         self.put(number)
         return number
+
+    def learn(self, one, step, tags):
+        """Take up a sum that may be forgotten again."""
+        self.store.learnt.append(self.take_up(one, step, tags))
 
     def settle(self, number, early):
         """Learn from a broken sum, all being laid back to a level where the sum that is learnt forbids something.
@@ -246,22 +254,30 @@ class Engine:
             self.waits[number] = True
         store.uses = [many // 2 for many in store.uses]
 
-    def asked(self, tags):
-        """The numbers of the sums, but for learnt ones, that follow from what has these tags alone."""
+    def take_cliques(self):
+        """Take up, once for all, what cliques say."""
+        if not self.joined:
+            self.joined = True
+            for one, step, tags in clique_sums(self.store):
+                self.take_up(one, step, tags)
+
+    def asked(self):
+        """The numbers of the sums, but for learnt ones, that follow from what is let."""
         store = self.store
         learnt = {number: True for number in store.learnt}
         return [
             number for number, one in enumerate(store.sums)
-            if one is not None and number not in learnt and store.tags[number] & ~tags == 0
+            if one is not None and number not in learnt and store.tags[number] & ~self.tags == 0
         ]
 
-    def mix(self, tags, many):
-        """Learn a sum that the sets break, if sums with these tags come to one; else hope for what mixes them best.
+    def mix(self, many):
+        """Learn a sum that the sets break, if sums that are let come to one; else hope for what mixes them best.
 
         It is done ahead of all decisions, when so many sums have been broken.
         """
         store = self.store
-        numbers = self.asked(tags)
+        self.take_cliques()
+        numbers = self.asked()
         if sum([len(store.rows[number]) for number in numbers]) > MOST_TERMS:
             return
         left = [self.bits.of(mask) for mask in self.sets]
@@ -326,7 +342,7 @@ class Engine:
                 self.lighten()
                 begun, most = many, most + most // START_PART
                 if many >= mixes:
-                    self.mix(tags, many)
+                    self.mix(many)
                     mixes = MIX_TIMES * many
             else:
                 choice = self.pick()
