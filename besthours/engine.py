@@ -5,6 +5,7 @@ from besthours.cuts import Cut
 from besthours.mixing import mixed
 from besthours.steps import add_sums
 from besthours.store import Bits, Store, heavy_of, is_open, least_bit, top_of
+from besthours.triangles import triangle_sums
 
 # how many sums are broken up to the first fresh start, and by which part there are more up to the next one
 FIRST_START = 30
@@ -16,6 +17,9 @@ MIX_TIMES = 2
 MIX_TURNS = 2
 MIX_WORK = 200000
 MOST_TERMS = 100000
+# how many times on end triangles are taken up for a mix, and up to how many of them
+MIX_ROUNDS = 4
+MOST_TRIANGLES = 400
 # how many sums are learnt before half of them is forgotten, and how many more the next time
 FIRST_LEARNT = 400
 MORE_LEARNT = 100
@@ -62,9 +66,11 @@ class Engine:
         self.hopes = [0] * len(store.sizes)
         self.orders = [tuple(range(many)) for many in store.sizes]
         self.most_learnt = FIRST_LEARNT
-        # the tags of what is let, whether cliques have been looked for, and how far the values left have been mixed
+        # the tags of what is let; whether cliques have been looked for, how many triangles have been found, and how
+        # far the values left have been mixed
         self.tags = 0
         self.joined = False
+        self.triangles = 0
         self.mixture = None
 
     def begin(self, sets, tags):
@@ -275,25 +281,42 @@ class Engine:
 
         It is done ahead of all decisions, when so many sums have been broken.
         """
-        store = self.store
         self.take_cliques()
-        numbers = self.asked()
-        if sum([len(store.rows[number]) for number in numbers]) > MOST_TERMS:
-            return
-        left = [self.bits.of(mask) for mask in self.sets]
-        sums = [(number, store.sums[number]) for number in numbers]
-        times, self.mixture = mixed(left, sums, MIX_TURNS * many, MIX_WORK * many, self.mixture)
-        if times == {}:
-            for choice, value in self.mixture.greatest().items():
-                self.hopes[choice] = 1 << value
-            return
+        for _ in range(MIX_ROUNDS):
+            numbers = self.asked()
+            sums = [(number, self.store.sums[number]) for number in numbers]
+            if sum([len(one[0]) for _, one in sums]) > MOST_TERMS:
+                return
+            left = [self.bits.of(mask) for mask in self.sets]
+            times, self.mixture = mixed(left, sums, MIX_TURNS * many, MIX_WORK * many, self.mixture)
+            if times != {}:
+                self.learn_times(times)
+                return
+            if not self.take_triangles(numbers):
+                break
+        for choice, value in self.mixture.greatest().items():
+            self.hopes[choice] = 1 << value
+
+    def take_triangles(self, numbers):
+        """Take up triangles that the mix doesn't keep; tells whether there are any."""
+        if self.triangles > MOST_TRIANGLES:
+            return False
+        found = triangle_sums(self.store, numbers, self.mixture.told_shares())
+        for one, step, tags in found:
+            self.take_up(one, step, tags)
+        self.triangles += len(found)
+        return found != []
+
+    def learn_times(self, times):
+        """Learn a sum of others, each of them so many times."""
+        store = self.store
         pairs = [(number, many) for number, many in times.items()]
         one = add_sums([(store.sums[number], many) for number, many in pairs])
         step = store.add_step(("add", tuple([(store.step_of(number), many) for number, many in pairs])))
-        own = 0
+        tags = 0
         for number, _ in pairs:
-            own = own | store.tags[number]
-        self.learn(one, step, own)
+            tags = tags | store.tags[number]
+        self.learn(one, step, tags)
 
     def pick(self):
         """The choice with more values to be decided next, None if each has one."""

@@ -11,6 +11,7 @@ WHOLE = 2 ** 24
 FINE = 2 ** 40
 # paces are told in such parts
 PARTS = 2 ** 20
+LEAST_SHARE = WHOLE // 200
 # after so many turns on end in which no sum lacks weight a mix that keeps all sums is near
 KEPT_TURNS = 5
 
@@ -161,6 +162,16 @@ class Mix:
             most = max(own)
             if 2 * most >= WHOLE:
                 found[choice] = self.left[choice][own.index(most)]
+        return found
+
+
+    def told_shares(self):
+        """(CHOICE, VALUE, SHARE) of all values with a share worth the name."""
+        found = [(choice, those[0], WHOLE) for choice, those in enumerate(self.left) if len(those) == 1]
+        for choice, first, end in self.spans:
+            for value, share in zip(self.left[choice], self.shares[first:end]):
+                if share > LEAST_SHARE:
+                    found.append((choice, value, share))
         return found
 
 
