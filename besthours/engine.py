@@ -41,6 +41,11 @@ def slack_of(one, rows, sets):
     return total
 
 
+def many_terms(store, numbers):
+    """How many terms the sums with some numbers have together."""
+    return sum([len(store.rows[number]) for number in numbers])
+
+
 class Engine:
     """A search at work: the sets (MASKS), what was taken out of them and why, and a mark for each decision.
 
@@ -268,13 +273,17 @@ class Engine:
                 self.take_up(one, step, tags)
 
     def asked(self):
-        """The numbers of the sums, but for learnt ones, that follow from what is let."""
+        """The numbers of the sums, but for learnt ones, that follow from what is let, if they aren't too great."""
         store = self.store
         learnt = {number: True for number in store.learnt}
-        return [
+        found = [
             number for number, one in enumerate(store.sums)
             if one is not None and number not in learnt and store.tags[number] & ~self.tags == 0
         ]
+        if many_terms(store, found) > MOST_TERMS:
+            # clauses of many choices say the least
+            found = [number for number in found if store.sums[number][1] > 1 or len(store.rows[number]) < 3]
+        return found if many_terms(store, found) <= MOST_TERMS else []
 
     def mix(self, many):
         """Learn a sum that the sets break, if sums that are let come to one; else hope for what mixes them best.
@@ -285,8 +294,6 @@ class Engine:
         for _ in range(MIX_ROUNDS):
             numbers = self.asked()
             sums = [(number, self.store.sums[number]) for number in numbers]
-            if sum([len(one[0]) for _, one in sums]) > MOST_TERMS:
-                return
             left = [self.bits.of(mask) for mask in self.sets]
             times, self.mixture = mixed(left, sums, MIX_TURNS * many, MIX_WORK * many, self.mixture)
             if times != {}:

@@ -11,7 +11,8 @@ WHOLE = 2 ** 24
 FINE = 2 ** 40
 # paces are told in such parts
 PARTS = 2 ** 20
-LEAST_SHARE = WHOLE // 200
+# a share that is worth the name
+LEAST_SHARE = 80000
 # after so many turns on end in which no sum lacks weight a mix that keeps all sums is near
 KEPT_TURNS = 5
 

@@ -7,9 +7,9 @@ is at most one. Where values are mixed this says more than each of the three.
 from besthours.mixing import WHOLE
 from besthours.steps import add_sums, divide_sum, raise_sum
 
-# how many triangles are told at once, and from how many shares on
+# how many triangles are told at once, and how much more than one WHOLE must be shared there
 MOST_TRIANGLES = 40
-LEAST_SHARES = WHOLE + WHOLE // 50
+LEAST_MORE = 300000
 
 
 def is_lone(one):
@@ -58,11 +58,11 @@ def wide_triples(named):
         for other, share in others.items():
             for third, more in pairs[other].items():
                 # what all three name counts three times here, so this is only a first look
-                if third in others and share + more + others[third] >= LEAST_SHARES:
+                if third in others and share + more + others[third] >= WHOLE + LEAST_MORE:
                     found.append((share + more + others[third], (one, other, third)))
     found = sorted(found, reverse=True)[:5 * MOST_TRIANGLES]
     found = [(shares_of(named, triple), triple) for _, triple in found]
-    return [triple for shares, triple in sorted(found, reverse=True)[:MOST_TRIANGLES] if shares >= LEAST_SHARES]
+    return [triple for shares, triple in sorted(found, reverse=True)[:MOST_TRIANGLES] if shares >= WHOLE + LEAST_MORE]
 
 
 def raises_of(weights, place):
